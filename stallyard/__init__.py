@@ -1,0 +1,1 @@
+"""Stallyard: carts that wish for stalls in a ring."""
