@@ -7,10 +7,14 @@ LEAST_STALLS = 2
 MOST_STALLS = 200
 
 
+def is_size(many):
+    return many >= LEAST_STALLS and many <= MOST_STALLS
+
+
 class Yard:
     def __init__(self, many, rule):
         # The refusal doesn't show the number: Python won't write one of some thousand figures.
-        if many < LEAST_STALLS or many > MOST_STALLS:
+        if not is_size(many):
             raise NoSize(f"a yard has {LEAST_STALLS} to {MOST_STALLS} stalls")
         self.many = many
         self.rule = rule

@@ -1,6 +1,7 @@
 """The package keeps to the part of Python in ../shared/LANGUAGE.md, as far as a plain reading of its files shows."""
 
 import ast
+import builtins
 import pathlib
 import re
 import unittest
@@ -24,6 +25,12 @@ BUILT_IN = set("""
 len range enumerate zip min max sum abs sorted reversed int str bool list tuple dict set frozenset isinstance ord
 repr any all divmod Exception ValueError KeyError IndexError LookupError ZeroDivisionError ArithmeticError
 OverflowError RuntimeError NotImplementedError StopIteration TypeError AttributeError
+""".split())
+
+METHODS = set("""
+append clear copy count endswith extend find get index insert isalnum isalpha isdigit islower isspace isupper items
+join keys ljust lower lstrip partition pop remove replace reverse rfind rjust rpartition rsplit rstrip setdefault
+split splitlines startswith strip update upper values zfill bit_length
 """.split())
 
 DOUBLE = ("__init__", "__eq__", "__repr__", "__str__", "__len__")
@@ -110,6 +117,61 @@ class LanguageTest(unittest.TestCase):
             for node in ast.walk(tree):
                 if isinstance(node, ast.Name):
                     self.assertIn(node.id, bound | BUILT_IN, f"{name}:{node.lineno}")
+
+    def test_locals(self):
+        for name, tree in self.trees.items():
+            taken = set(dir(builtins))
+            for node in tree.body:
+                if isinstance(node, ast.ClassDef):
+                    taken.add(node.name)
+                if isinstance(node, ast.ImportFrom):
+                    taken.update(part.name for part in node.names)
+            for node in ast.walk(tree):
+                if isinstance(node, ast.arg):
+                    self.assertNotIn(node.arg, taken, f"{name}:{node.lineno}")
+                if isinstance(node, ast.Name) and isinstance(node.ctx, ast.Store):
+                    self.assertNotIn(node.id, taken, f"{name}:{node.lineno}")
+
+    def test_each_name_once_at_the_top(self):
+        for name, tree in self.trees.items():
+            bound = []
+            for node in tree.body:
+                if isinstance(node, (ast.FunctionDef, ast.ClassDef)):
+                    bound.append(node.name)
+                elif isinstance(node, ast.ImportFrom):
+                    bound.extend(part.name for part in node.names)
+                elif isinstance(node, ast.Assign):
+                    bound.append(node.targets[0].id)
+                else:
+                    self.assertIsInstance(node, ast.Expr, name)
+            self.assertEqual(len(bound), len(set(bound)), name)
+
+    def test_calls_of_methods(self):
+        own = set()
+        for tree in self.trees.values():
+            for node in ast.walk(tree):
+                if isinstance(node, ast.ClassDef):
+                    own.update(part.name for part in node.body if isinstance(part, ast.FunctionDef))
+        for name, tree in self.trees.items():
+            called = [node.func for node in ast.walk(tree) if isinstance(node, ast.Call)]
+            for node in ast.walk(tree):
+                if not isinstance(node, ast.Attribute):
+                    continue
+                place = f"{name}:{node.lineno}"
+                if node in called:
+                    self.assertIn(node.attr, METHODS | own, place)
+                else:
+                    self.assertNotIn(node.attr, METHODS | own, place)
+
+    def test_is_and_written_texts(self):
+        for name, tree in self.trees.items():
+            for node in ast.walk(tree):
+                place = f"{name}:{getattr(node, 'lineno', 0)}"
+                if isinstance(node, ast.Compare) and any(isinstance(op, (ast.Is, ast.IsNot)) for op in node.ops):
+                    self.assertIn(ast.unparse(node.comparators[-1]), ("None", "True", "False"), place)
+                if isinstance(node, ast.FormattedValue):
+                    self.assertIsInstance(node.value, ast.Name, place)
+                    self.assertIsNone(node.format_spec, place)
 
     def test_no_name_is_a_method_here_and_a_value_there(self):
         methods = set()

@@ -1,38 +1,12 @@
 """Point 5, and points 3, 4 and 6 over every yard that small rows of puttings and takings lead to."""
 
-import copy
 import itertools
 import random
 import unittest
 
 from stallyard.errors import Full, Here, NoCart
 from stallyard.yard import Yard
-
-RULES = (0, 1, 2)
-
-
-def every_yard(many, rule, names):
-    """Every yard of these names, each with another layout, and the moves between them."""
-    empty = Yard(many, rule)
-    found = {tuple(empty.stalls()): empty}
-    moves = []
-    waiting = [empty]
-    while waiting:
-        yard = waiting.pop()
-        for name in names:
-            after = copy.deepcopy(yard)
-            if name in yard.stalls():
-                told = after.take(name)
-            elif yard.how_many() < many - 1:
-                told = after.put(name)
-            else:
-                continue
-            moves.append((yard, name, told, after))
-            key = tuple(after.stalls())
-            if key not in found:
-                found[key] = after
-                waiting.append(after)
-    return list(found.values()), moves
+from tests.helper import RULES, every_yard, turned
 
 
 def ways(layout, many):
@@ -134,11 +108,7 @@ class LongRowTest(unittest.TestCase):
         chance = random.Random(seed)
         yard = Yard(many, rule)
         for turn in range(600):
-            name = chance.choice(wanted + others)
-            if yard.where(name) is not None:
-                yard.take(name)
-            elif yard.how_many() < many - 1:
-                yard.put(name)
+            turned(yard, chance.choice(wanted + others))
         for name in others:
             if yard.where(name) is not None:
                 yard.take(name)

@@ -4,20 +4,7 @@ import unittest
 
 from stallyard.errors import Full, Here, NoCart, NoSize
 from stallyard.yard import Yard
-
-GREATEST = 10 ** 30 - 1
-RULES = (0, 1, 2)
-
-
-def stood(many, rule, names):
-    yard = Yard(many, rule)
-    for name in names:
-        yard.put(name)
-    return yard
-
-
-def all_told(yard):
-    return (yard.many, yard.rule, yard.stalls(), yard.names(), yard.how_many(), yard.steps())
+from tests.helper import GREATEST, RULES, all_told, stood
 
 
 class RefusalCase(unittest.TestCase):
